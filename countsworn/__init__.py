@@ -1,0 +1,1 @@
+"""A counter of the fillings of a formula, which leaves a sheet that can be checked."""
