@@ -15,6 +15,10 @@ FUNCTIONS = {
                    "is_clause(value)", "is_residue(value)", "formula_faults(value)", "keeps(residue, filling)",
                    "weight_of(weights, literal)", "are_weights(formula, value)"],
     "text.py": ["show_formula(formula, weights)", "read_formula(text)"],
+    "expressions.py": ["is_expression(value)", "holds(expression, filling)", "variables_in(expression)"],
+    "words.py": ["show_expression(expression)", "read_expression(text)"],
+    "encode.py": ["encode(expressions, shown)"],
+    "plain.py": ["plain_sum(formula, weights)", "plain_models(formula)"],
 }
 CLASSES = {
     "errors.py": ["CountsError", "FormulaError", "ExpressionError", "PackError", "OpenSheet", "NoFilling", "PolicyError",
