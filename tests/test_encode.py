@@ -246,7 +246,8 @@ class Numbering(Case):
         for pair in [(("or", X[1], X[2]), ("or", X[2], X[1])), (("and",), ("yes",)), (("or",), ("no",)),
                      (("atmost", 2, X[1]), ("atmost", 3, X[1])), (("or", X[1]), ("and", X[1])),
                      (("or", X[1]), ("or", X[1], X[1])), (("or", X[1]), ("or", ("not", ("not", X[1])))),
-                     (("implies", X[1], X[2]), ("or", ("not", X[1]), X[2])), (("xor", X[1], X[2]), ("iff", X[1], X[2]))]:
+                     (("implies", X[1], X[2]), ("or", ("not", X[1]), X[2])),
+                     (("xor", X[1], X[2]), ("iff", X[1], X[2]))]:
             formula = encode(list(pair), (1, 2))
             self.assertEqual(formula[1], (3, 4), pair)
             self.assertEqual(formula, slow_encode(list(pair), (1, 2)))

@@ -73,7 +73,8 @@ class IsExpression(unittest.TestCase):
                 self.assertIs(is_expression(("atmost", 2, *parts)), False, value)
 
     def test_words(self):
-        for word in ("", "And", "AND", " and", "nand", "x1", "true", "ite", "atleast", 1, None, True, ("and",), ["and"]):
+        for word in ("", "And", "AND", " and", "nand", "x1", "true", "ite", "atleast", 1, None, True, ("and",),
+                     ["and"]):
             for many in range(4):
                 self.assertIs(is_expression((word, *[X[1]] * many)), False, (word, many))
 

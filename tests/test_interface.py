@@ -19,6 +19,11 @@ FUNCTIONS = {
     "words.py": ["show_expression(expression)", "read_expression(text)"],
     "encode.py": ["encode(expressions, shown)"],
     "plain.py": ["plain_sum(formula, weights)", "plain_models(formula)"],
+    "residues.py": ["units(residue)", "propagate(residue, literals)", "parts_of(residue)", "lessened(residue)",
+                    "shown_of(formula, residue)"],
+    "chains.py": ["follows(residue, clause)", "refutes(residue, rows)"],
+    "search.py": ["search(residue, *, fuel=10000)"],
+    "sheets.py": ["children_of(rule)", "reached(sheet)", "is_open(sheet)", "tally(sheet)", "trimmed(sheet)"],
 }
 CLASSES = {
     "errors.py": ["CountsError", "FormulaError", "ExpressionError", "PackError", "OpenSheet", "NoFilling", "PolicyError",

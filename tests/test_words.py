@@ -120,8 +120,8 @@ class Read(Case):
 
 class Refused(Case):
     def test_words(self):
-        for word in ("x", "X1", "y1", "true", "And", "AND", "ands", "an", "not1", "yesno", "yes1", "var", "1", "0", "12",
-                     "x1x2", "1x", "xx1", "x1a", "atleast", "e", "x", "xyes", "None"):
+        for word in ("x", "X1", "y1", "true", "And", "AND", "ands", "an", "not1", "yesno", "yes1", "var", "1", "0",
+                     "12", "x1x2", "1x", "xx1", "x1a", "atleast", "e", "x", "xyes", "None"):
             for ahead, behind in (("", ""), ("", "(x1)"), ("and(", ")"), ("or(x1, ", ", x2)"), ("  not( ", ")"),
                                   ("atmost(1, ", ")")):
                 self.refuse(ahead + word + behind, len(ahead))
@@ -208,9 +208,9 @@ class Refused(Case):
         self.refuse("x1()", 2)
 
     def test_early_end(self):
-        for text in ("", " ", "     ", "not", "not ", "not(", "not(  ", "and(", "and(x1", "and(x1 ", "and(x1,", "and(x1,  ",
-                     "xor(x1, x2", "atmost", "atmost(", "atmost(1", "atmost(12 ", "atmost(1,", "atmost(1, x1", "if(x1, x2",
-                     "and(or(x1, not(x2))", "and(and("):
+        for text in ("", " ", "     ", "not", "not ", "not(", "not(  ", "and(", "and(x1", "and(x1 ", "and(x1,",
+                     "and(x1,  ", "xor(x1, x2", "atmost", "atmost(", "atmost(1", "atmost(12 ", "atmost(1,", "atmost(1, x1",
+                     "if(x1, x2", "and(or(x1, not(x2))", "and(and("):
             self.refuse(text, len(text))
 
     def test_each_beginning_ends_too_early(self):
