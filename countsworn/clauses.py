@@ -54,24 +54,62 @@ def place_of(clause, rows):
     return low
 
 
+def merged(rows, clauses):
+    """The ascending list of the clauses of an ascending list and of some others, each once."""
+    found = list(rows)
+    # Where the others are few, to put them in is less work than to sort all anew.
+    for clause in clauses:
+        at = place_of(clause, found)
+        if at == len(found) or found[at] != clause:
+            found.insert(at, clause)
+    return found
+
+
+def residue_with(residue, clause):
+    """The residue with a clause, which may be in it already."""
+    return tuple(merged(residue, [clause]))
+
+
 def under(residue, literal):
     """The residue without the clauses that have the literal, its opposite taken out of the others."""
     kept = [clause for clause in residue if literal not in clause and -literal not in clause]
-    # The kept clauses ascend already: to put the few others in is less work than to sort all anew.
+    shorter = []
     for clause in residue:
         if -literal in clause:
-            shorter = tuple([other for other in clause if other != -literal])
-            at = place_of(shorter, kept)
-            if at == len(kept) or kept[at] != shorter:
-                kept.insert(at, shorter)
-    return tuple(kept)
+            shorter.append(tuple([other for other in clause if other != -literal]))
+    return tuple(merged(kept, shorter))
+
+
+def clause_under(clause, given):
+    """What is left of a clause, given a dict of literals: None if it has one of them."""
+    for literal in clause:
+        if literal in given:
+            return None
+    return tuple([literal for literal in clause if -literal not in given])
+
+
+def given_by(literals):
+    """A dict of the literals of a list that change something if they are given in order."""
+    given = {}
+    for literal in literals:
+        # A variable that has a literal is in no clause any more: its opposite changes nothing.
+        if -literal not in given:
+            given[literal] = True
+    return given
 
 
 def under_all(residue, literals):
     """The residue under each literal of a list, in order."""
-    for literal in literals:
-        residue = under(residue, literal)
-    return residue
+    given = given_by(literals)
+    kept = []
+    shorter = []
+    for clause in residue:
+        rest = clause_under(clause, given)
+        if rest == clause:
+            kept.append(clause)
+        elif rest is not None:
+            shorter.append(rest)
+    return tuple(merged(kept, shorter))
 
 
 def is_variable(value):

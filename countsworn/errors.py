@@ -9,7 +9,7 @@ class FormulaError(CountsError):
     """A text that is no formula; line is the number of the faulty line, counted from 1."""
 
     def __init__(self, line):
-        CountsError.__init__(self, f"line {line}")
+        super().__init__(f"line {line}")
         self.line = line
 
 
@@ -17,7 +17,7 @@ class ExpressionError(CountsError):
     """A text that is no expression; at is the offset of what cannot stand there."""
 
     def __init__(self, at):
-        CountsError.__init__(self, f"offset {at}")
+        super().__init__(f"offset {at}")
         self.at = at
 
 
@@ -25,7 +25,7 @@ class PackError(CountsError):
     """Data or a listing that cannot be read, or a value that cannot be packed; at says where."""
 
     def __init__(self, at):
-        CountsError.__init__(self, f"place {at}")
+        super().__init__(f"place {at}")
         self.at = at
 
 

@@ -81,11 +81,13 @@ def lessened(residue):
     """The residue without each clause that has another one within it."""
     shelf = Shelf()
     kept = {}
+    longest = max([len(clause) for clause in residue], default=0)
     # A clause can only have a shorter one within it; one that was left out had a kept one within it.
     for clause in sorted(residue, key=len):
         if not shelf.has_within(clause):
-            shelf.put_in(clause)
             kept[clause] = True
+            if len(clause) < longest:
+                shelf.put_in(clause)
     return tuple([clause for clause in residue if clause in kept])
 
 

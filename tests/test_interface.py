@@ -24,11 +24,28 @@ FUNCTIONS = {
     "chains.py": ["follows(residue, clause)", "refutes(residue, rows)"],
     "search.py": ["search(residue, *, fuel=10000)"],
     "sheets.py": ["children_of(rule)", "reached(sheet)", "is_open(sheet)", "tally(sheet)", "trimmed(sheet)"],
+    "checker.py": ["check(formula, value)", "refusal(formula, value)"],
+    "walks.py": ["node_sums(sheet, weights)", "bounds(sheet, weights)", "sum_of(sheet, weights)",
+                 "literal_sums(sheet, weights)", "chances(sheet, weights)", "surely(sheet)",
+                 "is_possible(sheet, literals)"],
+    "best.py": ["best(sheet, weights)", "best_rows(sheet, weights, count)"],
+    "order.py": ["model_count(sheet)", "model_at(sheet, k)", "number_of(sheet, filling)", "models(sheet)",
+                 "draw_at(sheet, weights, share)"],
+    "policy.py": ["is_policy(value)", "chosen(formula, policy, residue)"],
+    "compiler.py": ["compile_sheet(formula, policy, *, fuel=100000)", "decisions(formula, policy)"],
+    "changes.py": ["condition(sheet, literals)", "hide(formula, variables)", "both(first, second)",
+                   "with_clause(formula, clause)", "without_clause(formula, clause)"],
 }
 CLASSES = {
     "errors.py": ["CountsError", "FormulaError", "ExpressionError", "PackError", "OpenSheet", "NoFilling", "PolicyError",
                   "ChangeError"],
+    "keeper.py": ["Keeper"],
 }
+METHODS = {
+    "Keeper": ["__init__(self, formula, policy)", "put(self, clause)", "take(self, clause)", "sheet_now(self)",
+               "nodes_made(self)", "total(self, weights)"],
+}
+VALUES = {"policy.py": ["PLAIN", "USUAL"]}
 
 
 def definitions(name, kind):
@@ -47,6 +64,20 @@ class Interface(unittest.TestCase):
     def test_classes(self):
         for name, promised in CLASSES.items():
             found = [node.name for node in definitions(name, ast.ClassDef)]
+            for one in promised:
+                self.assertIn(one, found, name)
+
+    def test_methods(self):
+        for name in CLASSES:
+            for node in definitions(name, ast.ClassDef):
+                own = [method for method in node.body if isinstance(method, ast.FunctionDef)]
+                found = [f"{method.name}({ast.unparse(method.args)})" for method in own]
+                for method in METHODS.get(node.name, []):
+                    self.assertIn(method, found, node.name)
+
+    def test_values(self):
+        for name, promised in VALUES.items():
+            found = [node.targets[0].id for node in definitions(name, ast.Assign)]
             for one in promised:
                 self.assertIn(one, found, name)
 
