@@ -35,15 +35,23 @@ FUNCTIONS = {
     "compiler.py": ["compile_sheet(formula, policy, *, fuel=100000)", "decisions(formula, policy)"],
     "changes.py": ["condition(sheet, literals)", "hide(formula, variables)", "both(first, second)",
                    "with_clause(formula, clause)", "without_clause(formula, clause)"],
+    "same.py": ["parting(first, second)", "implies(first, second)"],
+    "packing.py": ["pack(value)", "unpack(data)", "check_bytes(formula, data)"],
+    "listing.py": ["show_sheet(sheet)", "read_sheet(formula, text)"],
 }
 CLASSES = {
     "errors.py": ["CountsError", "FormulaError", "ExpressionError", "PackError", "OpenSheet", "NoFilling", "PolicyError",
                   "ChangeError"],
     "keeper.py": ["Keeper"],
+    "house.py": ["House"],
 }
 METHODS = {
     "Keeper": ["__init__(self, formula, policy)", "put(self, clause)", "take(self, clause)", "sheet_now(self)",
                "nodes_made(self)", "total(self, weights)"],
+    "House": ["__init__(self, formula, weights, *, policy=USUAL)", "put(self, clause)", "take(self, clause)",
+              "weigh(self, literal, weight)", "tell(self, literal)", "untell(self, literal)", "told(self)", "count(self)",
+              "total(self)", "chance(self, literal)", "best(self)", "at(self, k)", "draw(self, share)",
+              "within(self, fuel)", "report(self)"],
 }
 VALUES = {"policy.py": ["PLAIN", "USUAL"]}
 
