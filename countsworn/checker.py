@@ -43,7 +43,7 @@ def has_form(rule, number):
     word, *items = rule
     if word not in _ITEMS or len(_ITEMS[word]) != len(items):
         return False
-    return all(is_of_kind(item, kind, number) for item, kind in zip(items, _ITEMS[word]))
+    return all([is_of_kind(item, kind, number) for item, kind in zip(items, _ITEMS[word])])
 
 
 def is_lessened(residue, rest):

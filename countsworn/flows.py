@@ -197,7 +197,8 @@ class Flow:
 
     def take_back(self):
         """Takes the literal back that was given last."""
-        for number, ways, found in self.trail.pop():
+        before = self.trail.pop()
+        for number, ways, found in before:
             self.ways[number] = ways
             self.sums[number] = found
 

@@ -1,12 +1,11 @@
 """Tests of [4.1], [4.3], [4.4] and [4.5]: units, parts and the rest of residues."""
 
 import copy
-import inspect
 import itertools
 import random
-import sys
 import unittest
 
+from common import Shallow
 from countsworn.clauses import is_residue, residue_of, under
 from countsworn.residues import lessened, parts_of, propagate, shown_of, units
 
@@ -48,17 +47,6 @@ def slow_parts(residue):
 def slow_lessened(residue):
     return tuple(clause for clause in residue
                  if not any(other != clause and set(other) <= set(clause) for other in residue))
-
-
-class Shallow:
-    """Lets calls go at most some 90 deeper than here."""
-
-    def __enter__(self):
-        self.limit = sys.getrecursionlimit()
-        sys.setrecursionlimit(len(inspect.stack(0)) + 90)
-
-    def __exit__(self, *rest):
-        sys.setrecursionlimit(self.limit)
 
 
 class Units(unittest.TestCase):

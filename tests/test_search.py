@@ -1,11 +1,10 @@
 """Tests of [5.1] and [5.2]: the search for a filling that keeps a residue."""
 
 import copy
-import inspect
 import random
-import sys
 import unittest
 
+from common import Shallow
 from countsworn.chains import refutes
 from countsworn.clauses import keeps, residue_of, under, variables_of
 from countsworn.residues import propagate
@@ -68,17 +67,6 @@ class Slow:
                 return end
         self.tell(decided)
         return None
-
-
-class Shallow:
-    """Lets calls go at most some 90 deeper than here."""
-
-    def __enter__(self):
-        self.limit = sys.getrecursionlimit()
-        sys.setrecursionlimit(len(inspect.stack(0)) + 90)
-
-    def __exit__(self, *rest):
-        sys.setrecursionlimit(self.limit)
 
 
 class Answers(unittest.TestCase):

@@ -1,11 +1,10 @@
 """Tests of [6.1] and [6.4]: the rules of nodes, and what the root of a sheet reaches."""
 
 import copy
-import inspect
 import random
-import sys
 import unittest
 
+from common import Shallow
 from countsworn.sheets import children_of, is_open, reached, tally, trimmed
 
 # A sheet by hand: of the clauses (1, 2) and (-1, 3) over three shown variables.
@@ -46,17 +45,6 @@ def slow_reached(sheet):
             found.add(number)
             waiting.extend(children_of(sheet[1][number][1]))
     return sorted(found)
-
-
-class Shallow:
-    """Lets calls go at most some 90 deeper than here."""
-
-    def __enter__(self):
-        self.limit = sys.getrecursionlimit()
-        sys.setrecursionlimit(len(inspect.stack(0)) + 90)
-
-    def __exit__(self, *rest):
-        sys.setrecursionlimit(self.limit)
 
 
 class Children(unittest.TestCase):
