@@ -4,7 +4,7 @@ from countsworn.clauses import clause_of, clause_under, given_by, residue_of, re
 from countsworn.compiler import BOUNDLESS, compile_sheet
 from countsworn.errors import ChangeError
 from countsworn.policy import USUAL
-from countsworn.sheets import children_of, renumbered, trimmed
+from countsworn.sheets import children_of, renumbered
 
 
 class Turning:
@@ -122,9 +122,8 @@ class Turning:
                 numbers[number] = self.make_anew(self.rest_of(number))
             else:
                 numbers[number] = self.add(self.rest_of(number), renumbered(rule, numbers))
-        # What the root became may have others behind it.
-        root = numbers[len(self.old) - 1]
-        return trimmed((self.formula, tuple(self.nodes[:root + 1])))
+        # Only what the root leads to was turned, so that it comes last and there is nothing to trim.
+        return (self.formula, tuple(self.nodes))
 
 
 def condition(sheet, literals):
